@@ -1,0 +1,1 @@
+"""Onewish: buyings told by one wish, or a round that bars it."""
