@@ -44,6 +44,11 @@ def is_book(thing):
     return all([len(buying[0]) == goods for buying in thing])
 
 
+def numbers_of(book):
+    """The numbers of its buyings, rising."""
+    return list(range(len(book)))
+
+
 def has_number(book, number):
     """Whether a buying has this number; numbers below 0 are none, though lists take them."""
     return 0 <= number < len(book)
@@ -85,6 +90,12 @@ def open_step(book, one, other):
 def waste_step(book, one, other):
     """Whether a waste step leads from the one to the other one."""
     return saved(book, one, other) > 0
+
+
+def all_steps(book):
+    """Each step from one buying to another one, as a tuple of their numbers."""
+    numbers = numbers_of(book)
+    return [(one, other) for one in numbers for other in numbers if one != other]
 
 
 def is_round(book, numbers):

@@ -5,7 +5,7 @@ import itertools
 import unittest
 
 from onewish.books import (
-    are_amounts, are_prices, cost, cost_of, has_number, is_book, is_buying, is_round,
+    all_steps, are_amounts, are_prices, cost, cost_of, has_number, is_book, is_buying, is_round, numbers_of,
     open_step, saved, spent, steps_of, waste_step,
 )
 from onewish.errors import NoBook, NoBuying, NoNumber, NoRow, NoText, NothingLeft, TooMany, WishError
@@ -178,6 +178,11 @@ class Rounds(unittest.TestCase):
     def test_steps(self):
         self.assertEqual(steps_of([2, 0]), [(2, 0), (0, 2)])
         self.assertEqual(steps_of([3, 1, 4]), [(3, 1), (1, 4), (4, 3)])
+
+    def test_all_steps(self):
+        self.assertEqual(all_steps(PLAIN[:1]), [])
+        self.assertEqual(all_steps(PLAIN[:3]), [(0, 1), (0, 2), (1, 0), (1, 2), (2, 0), (2, 1)])
+        self.assertEqual(numbers_of(PLAIN), [0, 1, 2, 3, 4])
 
     def test_has_number(self):
         told = [has_number(PLAIN, number) for number in (-1, 0, 4, 5, 10 ** 39)]

@@ -16,6 +16,12 @@ BUILTINS = set(
     " any all divmod Exception ValueError TypeError KeyError IndexError LookupError ZeroDivisionError"
     " ArithmeticError OverflowError RuntimeError NotImplementedError".split()
 )
+METHODS = set(
+    "append clear copy count endswith extend find get index insert isalnum isalpha isdigit islower isspace isupper"
+    " items join keys ljust lower lstrip partition pop remove replace reverse rfind rjust rpartition rsplit rstrip"
+    " setdefault split splitlines startswith strip update upper values zfill bit_length".split()
+)
+AT_ONCE = ("range", "zip", "enumerate", "reversed")
 OTHER_BUILTINS = set(dir(__builtins__) if not isinstance(__builtins__, dict) else __builtins__) - BUILTINS
 
 
@@ -47,6 +53,50 @@ class Language(unittest.TestCase):
                 self.assertEqual(node.level, 0)
                 self.assertTrue(node.module.startswith("onewish."))
 
+    def test_imports_name_the_file_that_defines(self):
+        for path, node in self.nodes(ast.ImportFrom):
+            defined = self.defined_in(PACKAGE / (node.module.split(".")[1] + ".py"))
+            for alias in node.names:
+                with self.subTest(file=path.name, name=alias.name):
+                    self.assertIn(alias.name, defined)
+
+    def test_no_files_import_from_each_other(self):
+        wanted = {path.stem: set() for path in FILES}
+        for path, node in self.nodes(ast.ImportFrom):
+            wanted[path.stem].add(node.module.split(".")[1])
+        while wanted:
+            free = [name for name in wanted if not wanted[name] & set(wanted)]
+            self.assertTrue(free, sorted(wanted))
+            for name in free:
+                del wanted[name]
+
+    def test_imported_names_have_one_meaning(self):
+        for path in FILES:
+            imported, bound, used = set(), set(), set()
+            for node in ast.walk(ast.parse(path.read_text())):
+                if isinstance(node, ast.ImportFrom):
+                    imported.update(alias.name for alias in node.names)
+                elif isinstance(node, ast.Name):
+                    (bound if isinstance(node.ctx, ast.Store) else used).add(node.id)
+                elif isinstance(node, ast.arg):
+                    bound.add(node.arg)
+                elif isinstance(node, (ast.FunctionDef, ast.ClassDef)):
+                    bound.add(node.name)
+            with self.subTest(file=path.name):
+                self.assertEqual(imported & bound, set())
+                self.assertEqual(imported - used, set())
+
+    def test_what_is_iterated_at_once_is_not_stored(self):
+        for path, node in self.nodes((ast.Assign, ast.Return)):
+            if isinstance(node.value, ast.Call) and isinstance(node.value.func, ast.Name):
+                with self.subTest(file=path.name, line=node.lineno):
+                    self.assertNotIn(node.value.func.id, AT_ONCE)
+
+    def test_methods(self):
+        for path, node in self.nodes(ast.Attribute):
+            with self.subTest(file=path.name, line=node.lineno, name=node.attr):
+                self.assertTrue(node.attr in METHODS or self.is_own(node.attr))
+
     def test_no_floats(self):
         for path, node in self.nodes((ast.Constant, ast.Div)):
             with self.subTest(file=path.name):
@@ -62,6 +112,25 @@ class Language(unittest.TestCase):
                 self.assertNotIn(name, ("register", "elements", "input"))
                 if isinstance(node, ast.arg) or isinstance(node.ctx, ast.Store):
                     self.assertNotIn(name, BUILTINS)
+
+    def defined_in(self, path):
+        names = set()
+        for node in ast.parse(path.read_text()).body:
+            if isinstance(node, (ast.FunctionDef, ast.ClassDef)):
+                names.add(node.name)
+            elif isinstance(node, ast.Assign):
+                names.update(target.id for target in node.targets)
+        return names
+
+    def is_own(self, name):
+        """Whether a class of the package has a method, or assigns an attribute, of this name."""
+        for path, node in self.nodes((ast.ClassDef, ast.Attribute)):
+            if isinstance(node, ast.ClassDef):
+                if any(isinstance(row, ast.FunctionDef) and row.name == name for row in node.body):
+                    return True
+            elif node.attr == name and isinstance(node.ctx, ast.Store):
+                return True
+        return False
 
     def nodes(self, kinds):
         for path in FILES:
