@@ -3,10 +3,35 @@
 import itertools
 import math
 import random
+import unittest
 from fractions import Fraction
 
+from onewish import errors
+
+REFUSALS = (
+    errors.NoBook, errors.NoNumber, errors.NoBuying, errors.TooMany, errors.NoText, errors.NoRow, errors.NothingLeft,
+)
 KINDS = ("any", "even", "scaled")
 MOST = 10 ** 6
+
+
+class Checks(unittest.TestCase):
+    """What tests of several files ask."""
+
+    def check_refused(self, refusal, asked, *things):
+        """It is refused with just this refusal and none of the others."""
+        with self.assertRaises(refusal) as caught:
+            asked(*things)
+        self.assertIsInstance(caught.exception, errors.WishError)
+        self.assertIsInstance(caught.exception, ValueError)
+        for other in REFUSALS:
+            self.assertIs(isinstance(caught.exception, other), other is refusal)
+
+    def check_numbers(self, numbers):
+        """It is a list of rising whole numbers."""
+        self.assertIs(type(numbers), list)
+        self.assertTrue(all(type(number) is int for number in numbers))
+        self.assertEqual(numbers, sorted(set(numbers)))
 
 
 def price_by(book, one, other):
@@ -82,6 +107,19 @@ def all_rounds(many):
 def none_bars(book, kind):
     """Whether no round at all bars; for small books only."""
     return not any(round_bars(book, kind, numbers) for numbers in all_rounds(len(book)))
+
+
+def good_sets(book, kind):
+    """Of each set of numbers, as bits, whether it contains no round that bars; for at most 8 buyings."""
+    good = [True] * 2 ** len(book)
+    for numbers in all_rounds(len(book)):
+        if round_bars(book, kind, numbers):
+            good[sum(2 ** number for number in numbers)] = False
+    for chosen in range(len(good)):
+        for number in range(len(book)):
+            if chosen & 2 ** number and not good[chosen - 2 ** number]:
+                good[chosen] = False
+    return good
 
 
 def round_share(book, numbers):

@@ -4,11 +4,12 @@ import copy
 import itertools
 import unittest
 
+import making
 from onewish.books import (
     all_steps, are_amounts, are_prices, cost, cost_of, has_number, is_book, is_buying, is_round, numbers_of,
     open_step, saved, spent, steps_of, waste_step,
 )
-from onewish.errors import NoBook, NoBuying, NoNumber, NoRow, NoText, NothingLeft, TooMany, WishError
+from onewish.errors import NoNumber
 
 MOST = 10 ** 6
 BUYING = ((3, 5), (1, 0))
@@ -93,7 +94,7 @@ class Books(unittest.TestCase):
         self.assertIs(are_amounts((0, 0)), False)
 
 
-class Costs(unittest.TestCase):
+class Costs(making.Checks):
     def test_plain_example(self):
         book = [((3, 5), (1, 2)), ((2, 7), (4, 0))]
         self.assertEqual(cost(book, 0, 0), 13)
@@ -122,18 +123,10 @@ class Costs(unittest.TestCase):
             for wrong in (-1, -len(book), len(book), len(book) + 1, 10 ** 39, -(10 ** 39)):
                 for one, other in ((wrong, 0), (0, wrong), (wrong, wrong)):
                     with self.subTest(many=len(book), one=one, other=other):
-                        self.check_refused(cost, book, one, other)
-                        self.check_refused(open_step, book, one, other)
-                        self.check_refused(waste_step, book, one, other)
-                self.check_refused(spent, book, wrong)
-
-    def check_refused(self, asked, *things):
-        with self.assertRaises(NoNumber) as caught:
-            asked(*things)
-        self.assertIsInstance(caught.exception, WishError)
-        self.assertIsInstance(caught.exception, ValueError)
-        for other in (NoBook, NoBuying, TooMany, NoText, NoRow, NothingLeft):
-            self.assertNotIsInstance(caught.exception, other)
+                        self.check_refused(NoNumber, cost, book, one, other)
+                        self.check_refused(NoNumber, open_step, book, one, other)
+                        self.check_refused(NoNumber, waste_step, book, one, other)
+                self.check_refused(NoNumber, spent, book, wrong)
 
 
 class Steps(unittest.TestCase):
