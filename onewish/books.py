@@ -65,6 +65,12 @@ def cost_of(prices, amounts):
     return sum([price * amount for price, amount in zip(prices, amounts)])
 
 
+def weighted_prices(book, weights):
+    """For each good the sum of its prices at the buyings, each multiplied by the buying's weight, a whole number."""
+    rows = [prices for prices, amounts in book]
+    return [cost_of(column, weights) for column in zip(*rows)]
+
+
 def cost(book, one, other):
     """What the other one's amounts cost at the one's prices."""
     check_number(book, one)

@@ -1,6 +1,6 @@
 """Chains of steps: which numbers they lead to, and by which numbers between.
 
-Steps are told as a list that has, for each number, the list of those that a step leads to.
+Steps are told as a dict that has, for each number, those that a step leads to.
 """
 
 from onewish.books import numbers_of, open_step
@@ -37,16 +37,35 @@ def chain(nexts, start, end):
     return walked_back(before, end) if end in before else []
 
 
+def groups_from_top(befores):
+    """The numbers, those together between which chains lead both ways; no step leads to a group before.
+
+    It is told from which numbers a step leads to each. Where a step leads from one number to
+    another one, all from which a chain leads to the one lead to the other one, too: so those
+    with the fewest come first.
+    """
+    heads = {number: tuple(sorted(came_from(befores, number))) for number in befores}
+    order = sorted(set([(len(heads[number]), heads[number]) for number in heads]))
+    return [[number for number in sorted(heads) if heads[number] == head] for many, head in order]
+
+
 def open_nexts(book):
     """To which buyings open steps lead from each."""
-    return [[other for other in numbers_of(book) if open_step(book, one, other)] for one in numbers_of(book)]
+    numbers = numbers_of(book)
+    return {one: [other for other in numbers if open_step(book, one, other)] for one in numbers}
 
 
 def open_befores(book):
     """From which buyings open steps lead to each."""
-    return [[other for other in numbers_of(book) if open_step(book, other, one)] for one in numbers_of(book)]
+    numbers = numbers_of(book)
+    return {one: [other for other in numbers if open_step(book, other, one)] for one in numbers}
 
 
 def no_lower(book, number):
     """The buyings that stand no lower than this one: it, and those from which open steps lead to it."""
     return sorted(came_from(open_befores(book), number))
+
+
+def no_higher(book, number):
+    """The buyings that stand no higher than this one: it, and those to which open steps lead from it."""
+    return sorted(came_from(open_nexts(book), number))

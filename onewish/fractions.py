@@ -1,5 +1,7 @@
 """Whole numbers, and fractions: tuples (top, bottom) in lowest terms, bottom from 1 on."""
 
+from onewish.divisors import greatest_divisor
+
 NOUGHT = (0, 1)
 ONE = (1, 1)
 
@@ -7,14 +9,6 @@ ONE = (1, 1)
 def is_whole(thing):
     """Python counts True and False as integers; a whole number is neither."""
     return isinstance(thing, int) and not isinstance(thing, bool)
-
-
-def greatest_divisor(one, other):
-    """The greatest number that divides both; 0 where both are 0."""
-    one, other = abs(one), abs(other)
-    while other:
-        one, other = other, one % other
-    return one
 
 
 def fraction(top, bottom):
@@ -61,3 +55,28 @@ def less(one, other):
 def no_more(one, other):
     """Whether the first fraction is no more than the second."""
     return one[0] * other[1] <= other[0] * one[1]
+
+
+def alike(one, other):
+    """Whether two tops with bottoms, in lowest terms or not, are the same fraction."""
+    return one[0] * other[1] == other[0] * one[1]
+
+
+def none_below_nought(row):
+    """Whether all fractions of a list are 0 or above."""
+    return all([one[0] >= 0 for one in row])
+
+
+def raw_product(one, other):
+    """The product as top and bottom that are not brought to lowest terms, which is slow with thousands of figures."""
+    return (one[0] * other[0], one[1] * other[1])
+
+
+def over_one_bottom(row):
+    """A tuple of tops and one bottom: those of a list of fractions, in lowest terms or not, over this bottom."""
+    bottom = 1
+    for one in row:
+        # A bottom that divides what is there already, or stands below a nought, makes nothing greater.
+        if one[0] and bottom % one[1]:
+            bottom *= one[1]
+    return ([one[0] * (bottom // one[1]) if one[0] else 0 for one in row], bottom)

@@ -1,9 +1,9 @@
 """For a book and a kind: a wish that explains the book, or a round that bars every such wish."""
 
 from onewish.books import all_steps, cost, numbers_of, saved, spent, waste_step
-from onewish.chains import chain, no_lower, open_nexts
+from onewish.chains import chain, groups_from_top, open_befores, open_nexts
 from onewish.fractions import ONE, divided, fraction, less, whole
-from onewish.ways import least_ways
+from onewish.ways import least_sums, least_ways
 
 
 def round_of_any(book):
@@ -17,17 +17,6 @@ def round_of_any(book):
     return []
 
 
-def groups_from_top(book):
-    """The numbers, those together between which open steps lead both ways; none leads to a group before.
-
-    Where an open step leads from one buying to another one, all that stand no lower than the one
-    stand no lower than the other one: so those with the fewest come first.
-    """
-    heads = [no_lower(book, number) for number in numbers_of(book)]
-    order = sorted(set([(len(head), tuple(head)) for head in heads]))
-    return [[number for number in numbers_of(book) if heads[number] == list(head)] for many, head in order]
-
-
 def least_weight(book, number, worth, worths):
     """The least whole weight above 0 by which those of the groups before, too, can have their worths."""
     needed = [-((worth - worths[other]) // -saved(book, number, other)) for other in worths]
@@ -37,7 +26,7 @@ def least_weight(book, number, worth, worths):
 def wish_of_any(book):
     """A wish, in whole numbers, for a book that no round bars by "any"."""
     worths, weights = {}, {}
-    for group in groups_from_top(book):
+    for group in groups_from_top(open_befores(book)):
         bounds = [worths[one] - weights[one] * saved(book, one, other) for one in worths for other in group]
         worth = min(bounds, default=0)
         for number in group:
@@ -61,11 +50,7 @@ def told_even(book):
     """As told_by tells, by the kind "even": the worths are least ways, lengths being added up."""
     numbers = numbers_of(book)
     lengths = [[-saved(book, one, other) for other in numbers] for one in numbers]
-    word, told = least_ways(
-        book, 0,
-        lambda way, one, other: way + lengths[one][other],
-        lambda way, known: way < known,
-    )
+    word, told = least_sums(book, lengths)
     if word == "round":
         return ("round", told)
     return ("wish", ([whole(way) for way in told], [ONE for way in told]))
@@ -87,6 +72,11 @@ def told_scaled(book):
 
 
 TOLD_BY_KIND = {"any": told_any, "even": told_even, "scaled": told_scaled}
+
+
+def is_kind(word):
+    """Whether a text is one of the three kinds."""
+    return word in TOLD_BY_KIND
 
 
 def told_by(book, kind):

@@ -52,7 +52,7 @@ def steps_by_share(book):
 
 def leak(book):
     """A tuple of the least share of the book's rounds and a round that has it; None of one buying."""
-    nexts = [[] for buying in book]
+    nexts = {number: [] for number in numbers_of(book)}
     for one, other in steps_by_share(book):
         numbers = chain(nexts, other, one)
         if numbers:

@@ -26,3 +26,12 @@ def least_ways(book, start, lengthened, is_less):
                 before[other] = one
                 changed = True
     return ("ways", ways)
+
+
+def least_sums(book, lengths):
+    """As least_ways tells, of ways that begin as 0, a step adding lengths[one][other]."""
+    return least_ways(
+        book, 0,
+        lambda way, one, other: way + lengths[one][other],
+        lambda way, known: way < known,
+    )

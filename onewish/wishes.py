@@ -4,19 +4,19 @@ from onewish.books import all_steps, cost_of, saved
 from onewish.fractions import NOUGHT, ONE, fraction, less, no_more
 
 
-def changed_worth(worth, weight, change):
-    """The worth and the weight multiplied by a whole number, together, as top and bottom.
+def changed_worth(worth, weight, change, bottom):
+    """The worth and the weight multiplied by the change over the bottom, together, as top and bottom.
 
     It is not brought to lowest terms: with thousands of figures that is slow, and comparing
     does not need it.
     """
-    top = worth[0] * weight[1] + weight[0] * change * worth[1]
-    return (top, worth[1] * weight[1])
+    top = worth[0] * weight[1] * bottom + weight[0] * change * worth[1]
+    return (top, worth[1] * weight[1] * bottom)
 
 
 def in_reach(book, worths, weights, one, other):
     """Whether the other one's worth is no more than the one lets it be."""
-    bound = changed_worth(worths[one], weights[one], -saved(book, one, other))
+    bound = changed_worth(worths[one], weights[one], -saved(book, one, other), 1)
     return no_more(worths[other], bound)
 
 
@@ -59,11 +59,21 @@ def explains(book, kind, wish):
     return is_of_kind(book, worths, weights) and all_in_reach(book, worths, weights)
 
 
-def worth_by(book, wish, amounts):
-    """The worth of any amounts by a wish: the least that a buying lets them have."""
+def least_worth(book, wish, tops, bottom):
+    """The worth, by a wish, of amounts that are tops over a bottom: the least that a buying lets them have.
+
+    It is told as top and bottom that are not brought to lowest terms.
+    """
     least = None
     for (prices, bought), worth, weight in zip(book, wish[0], wish[1]):
-        bound = changed_worth(worth, weight, cost_of(prices, amounts) - cost_of(prices, bought))
+        change = cost_of(prices, tops) - cost_of(prices, bought) * bottom
+        bound = changed_worth(worth, weight, change, bottom)
         if least is None or less(bound, least):
             least = bound
-    return fraction(least[0], least[1])
+    return least
+
+
+def worth_by(book, wish, amounts):
+    """The worth of any amounts, whole numbers, by a wish."""
+    top, bottom = least_worth(book, wish, amounts, 1)
+    return fraction(top, bottom)

@@ -7,6 +7,7 @@ import unittest
 from fractions import Fraction
 
 from onewish import errors
+from onewish.kinds import told_by
 
 REFUSALS = (
     errors.NoBook, errors.NoNumber, errors.NoBuying, errors.TooMany, errors.NoText, errors.NoRow, errors.NothingLeft,
@@ -36,7 +37,17 @@ class Checks(unittest.TestCase):
 
 def price_by(book, one, other):
     """What the other one's amounts cost at the one's prices."""
-    return sum(price * amount for price, amount in zip(book[one][0], book[other][1]))
+    return priced(book[one][0], book[other][1])
+
+
+def priced(prices, amounts):
+    """What amounts cost at the prices; both may be fractions."""
+    return sum(price * amount for price, amount in zip(prices, amounts))
+
+
+def with_one(row, place, thing):
+    """The list with another thing at one place."""
+    return row[:place] + [thing] + row[place + 1:]
 
 
 def is_fraction(thing):
@@ -81,6 +92,14 @@ def wish_explains(book, kind, wish):
         if worths[other] > bound(book, worths, weights, one, other):
             return False
     return True
+
+
+def told_wishes(books):
+    """Each book and kind that has a wish, with the wish that is told."""
+    for book, kind in itertools.product(books, KINDS):
+        word, wish = told_by(book, kind)
+        if word == "wish":
+            yield book, kind, wish
 
 
 def round_bars(book, kind, numbers):
@@ -247,3 +266,8 @@ JUST_BARRED = [((1, 1), (0, 2)), ((2, 1), (1, 1))]
 EVEN_BARRED = [((1, 1), (0, 1)), ((1, 2), (0, 2))]
 # Costs are 1 + 4 of 2 + 3 spent, and 1 * 4 of 2 * 3.
 SCALED_BARRED = [((1, 1), (0, 2)), ((3, 2), (1, 0))]
+# Open steps lead 0 to 1, 1 to 2 and 2 to 3, and no others.
+CHAIN = [
+    ((2, 1, 9, 9), (3, 0, 0, 0)), ((9, 2, 1, 9), (0, 4, 0, 0)),
+    ((9, 9, 2, 1), (0, 0, 5, 0)), ((9, 9, 9, 2), (0, 0, 0, 6)),
+]

@@ -7,7 +7,7 @@ import unittest
 from fractions import Fraction
 
 import making
-from making import price_by
+from making import CHAIN, price_by
 from onewish.errors import NoBuying, NoNumber
 from onewish.kinds import has_wish, told_by
 from onewish.later import enough, may_come, stand_no_lower
@@ -97,13 +97,6 @@ def own_no_lower(book, number):
         if more <= found:
             return sorted(found)
         found |= more
-
-
-# Open steps lead 0 to 1, 1 to 2 and 2 to 3, and no others.
-CHAIN = [
-    ((2, 1, 9, 9), (3, 0, 0, 0)), ((9, 2, 1, 9), (0, 4, 0, 0)),
-    ((9, 9, 2, 1), (0, 0, 5, 0)), ((9, 9, 9, 2), (0, 0, 0, 6)),
-]
 
 
 class Standing(making.Checks):

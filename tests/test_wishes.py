@@ -7,24 +7,12 @@ import unittest
 from fractions import Fraction
 
 import making
-from making import as_fractions, as_tuple, as_tuples, price_by
+from making import as_fractions, as_tuple, as_tuples, price_by, told_wishes, with_one
 from onewish.kinds import told_by
 from onewish.wishes import explains, worth_by
 
 TINY = Fraction(1, 10 ** 60)
 GREAT = 10 ** 3999 + 7
-
-
-def told_wishes(books):
-    """Each book and kind that has a wish, with the wish that is told."""
-    for book, kind in itertools.product(books, making.KINDS):
-        word, wish = told_by(book, kind)
-        if word == "wish":
-            yield book, kind, wish
-
-
-def with_one(row, place, thing):
-    return row[:place] + [thing] + row[place + 1:]
 
 
 class Explains(unittest.TestCase):
