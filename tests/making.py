@@ -50,6 +50,15 @@ def with_one(row, place, thing):
     return row[:place] + [thing] + row[place + 1:]
 
 
+def of_other_lengths(amounts, weights):
+    """Two lists with something left out or put in, so that one at least has another length."""
+    nought = [(0, 1)]
+    rows = [([], []), ([], weights), (amounts, []), (amounts + nought, weights), (amounts, weights + nought)]
+    rows += [(amounts[:-1], weights), (amounts[1:], weights), (amounts, weights[:-1]), (amounts, weights[1:])]
+    rows += [(nought + amounts, nought + weights), (amounts[:-1], weights + nought), (weights, amounts)]
+    return [row for row in rows if [len(one) for one in row] != [len(amounts), len(weights)]]
+
+
 def is_fraction(thing):
     """Whether it is a fraction as [2] says."""
     if type(thing) is not tuple or [type(part) for part in thing] != [int, int]:

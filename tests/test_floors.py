@@ -217,13 +217,8 @@ class Shown(making.Checks):
     def test_counts(self):
         for book, prices, number in asked(233, (1, 3), (1, 3), (9,)):
             cost, amounts, weights = too_little(book, prices, number)
-            nought = [(0, 1)]
-            rows = [([], []), ([], weights), (amounts, []), (amounts + nought, weights), (amounts, weights + nought)]
-            rows += [(amounts[:-1], weights), (amounts[1:], weights), (amounts, weights[:-1]), (amounts, weights[1:])]
-            rows += [(nought + amounts, nought + weights), (amounts[:-1], weights + nought), (weights, amounts)]
-            for row in rows:
-                if [len(one) for one in row] != [len(amounts), len(weights)]:
-                    self.assertIs(floor_shown(book, prices, number, (cost, *row)), False)
+            for row in making.of_other_lengths(amounts, weights):
+                self.assertIs(floor_shown(book, prices, number, (cost, *row)), False)
 
     def test_shifted_so_that_the_sums_stay(self):
         found = {True: 0, False: 0}

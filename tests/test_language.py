@@ -97,6 +97,41 @@ class Language(unittest.TestCase):
             with self.subTest(file=path.name, line=node.lineno, name=node.attr):
                 self.assertTrue(node.attr in METHODS or self.is_own(node.attr))
 
+    def test_no_name_is_a_method_and_an_attribute(self):
+        methods, attributes = [], set()
+        for path, node in self.nodes((ast.ClassDef, ast.Attribute)):
+            if isinstance(node, ast.ClassDef):
+                methods += [row.name for row in node.body if isinstance(row, ast.FunctionDef)]
+            elif isinstance(node.ctx, ast.Store):
+                attributes.add(node.attr)
+        self.assertEqual(attributes & set(methods), set())
+        # An attribute or a method of a built-in value's name would be taken for that one.
+        for name in attributes | set(methods) - {"__init__"}:
+            self.assertFalse(any(hasattr(kind, name) for kind in (str, int, list, dict, set, tuple, bytes)), name)
+
+    def test_statements(self):
+        barred = (ast.Global, ast.AsyncFunctionDef, ast.Await, ast.GeneratorExp, ast.Yield, ast.Try, ast.With)
+        for path, node in self.nodes(barred):
+            self.fail((path.name, node.lineno))
+
+    def test_what_stands_at_module_level(self):
+        for path in FILES:
+            for node in ast.parse(path.read_text()).body:
+                with self.subTest(file=path.name, line=node.lineno):
+                    plain = (ast.ImportFrom, ast.FunctionDef, ast.ClassDef, ast.Assign)
+                    docstring = isinstance(node, ast.Expr) and isinstance(node.value, ast.Constant)
+                    self.assertTrue(docstring or isinstance(node, plain))
+                    if isinstance(node, ast.Assign):
+                        self.assertFalse(any(isinstance(one, (ast.Call, ast.ListComp)) for one in ast.walk(node)))
+
+    def test_is_stands_beside_none_true_and_false(self):
+        for path, node in self.nodes(ast.Compare):
+            for sign, right in zip(node.ops, node.comparators):
+                if isinstance(sign, (ast.Is, ast.IsNot)):
+                    with self.subTest(file=path.name, line=node.lineno):
+                        self.assertIsInstance(right, ast.Constant)
+                        self.assertIn(right.value, (None, True, False))
+
     def test_no_floats(self):
         for path, node in self.nodes((ast.Constant, ast.Div)):
             with self.subTest(file=path.name):

@@ -244,13 +244,8 @@ class Shown(unittest.TestCase):
     def test_counts(self):
         for book, wish, prices, money in asked(333, (1, 3), (1, 3), (9,)):
             worth, amounts, weights, by = most_worth(book, wish, prices, money)
-            nought = [(0, 1)]
-            rows = [([], []), ([], weights), (amounts, []), (amounts + nought, weights), (amounts, weights + nought)]
-            rows += [(amounts[:-1], weights), (amounts[1:], weights), (amounts, weights[:-1]), (amounts, weights[1:])]
-            rows += [(nought + amounts, nought + weights), (amounts[:-1], weights + nought), (weights, amounts)]
-            for row in rows:
-                if [len(one) for one in row] != [len(amounts), len(weights)]:
-                    self.assertIs(most_shown(book, wish, prices, money, (worth, *row, by)), False)
+            for row in making.of_other_lengths(amounts, weights):
+                self.assertIs(most_shown(book, wish, prices, money, (worth, *row, by)), False)
 
     def test_below_nought(self):
         # All sums come out as they should, though one thing is below 0.
